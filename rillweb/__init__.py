@@ -1,0 +1,1 @@
+"""Rillweb: waters that choose."""

@@ -1,0 +1,152 @@
+"""Sums of courses, parted into as few stretches as can be.
+
+Where no course begins a new stretch, the sum goes by rows: for each length of
+words one row, all words of this length added, as they would be said from day 0
+on. As the document has it (2.4), a sum of rows that is 0 on as many days in a
+row as their lengths come to is 0 for as long as the rows hold; so many days
+are their reach.
+"""
+
+from rillweb.errors import TooLong
+from rillweb.shares import total
+from rillweb.spans import MOST_SHARES, MOST_STRETCHES, aligned, share_on
+
+
+def rows_of(spans):
+    """The rows {length: shares} of the words of some spans, those of nothing but 0 left out."""
+    words = {}
+    for span in spans:
+        words.setdefault(len(span[2]), []).append(aligned(span))
+    rows = {}
+    for size, group in words.items():
+        row = [total(shares) for shares in zip(*group)]
+        if any([share.top != 0 for share in row]):
+            rows[size] = row
+    return rows
+
+
+def rows_between(begin, stop, spans):
+    """The rows of some spans that hold from a day on up to another one.
+
+    Few days are added one by one: to add whole words for them would be more work.
+    """
+    if stop is not None and stop - begin <= MOST_SHARES:
+        word = [total([share_on(span, day) for span in spans]) for day in range(begin, stop)]
+        return rows_of([(begin, stop, tuple(word))])
+    return rows_of(spans)
+
+
+def sum_on(rows, day):
+    """The sum that rows have on a day."""
+    return total([row[day % size] for size, row in rows.items()])
+
+
+def are_same(one, other):
+    """Whether two dicts of rows have the same sum on each day."""
+    reach = sum([size for size in one if size not in other]) + sum(list(other))
+    for day in range(reach):
+        if sum_on(one, day) != sum_on(other, day):
+            return False
+    return True
+
+
+def changes_of(courses):
+    """The days on which some of the courses, lists of spans, begin new spans, each with these."""
+    changes = {}
+    for at, spans in enumerate(courses):
+        for span in spans[1:]:
+            changes.setdefault(span[0], []).append((at, span))
+    return [(day, changes[day]) for day in sorted(changes)]
+
+
+def pieces(courses):
+    """Tuples (begin, stop, rows), one after the other: the days parted where the sum goes by other rows.
+
+    Where courses change and their sum does not, the days are not parted: so
+    twins that come to nothing cost little, however many stretches they have.
+    """
+    now = [spans[0] for spans in courses]
+    begin = 0
+    for day, changes in changes_of(courses):
+        old = rows_of([now[at] for at, _ in changes])
+        new = rows_of([span for _, span in changes])
+        if not are_same(old, new):
+            yield (begin, day, rows_between(begin, day, now))
+            begin = day
+        for at, span in changes:
+            now[at] = span
+    yield (begin, None, rows_between(begin, None, now))
+
+
+class Telling:
+    """A stretch that is being told from a day on, as long as some word of sixty shares will do.
+
+    told are the shares of its first days. borders[at] is the length of the
+    longest beginning of told[:at + 1], but for all of it, that is its end, too:
+    so the shortest word that will do is known without trying each length.
+    """
+
+    def __init__(self, begin):
+        self.begin = begin
+        self.told = []
+        self.borders = []
+        self.is_sure = False
+
+    def size(self):
+        """The length of the shortest word that will do till now."""
+        return len(self.told) - self.borders[-1]
+
+    def border_with(self, share):
+        """The border that told would have with one more share."""
+        if not self.told:
+            return 0
+        border = self.borders[-1]
+        while border > 0 and self.told[border] != share:
+            border = self.borders[border - 1]
+        return border + 1 if self.told[border] == share else 0
+
+    def takes(self, day, share):
+        """Whether the stretch goes on with a share on a day, which is then told."""
+        if self.is_sure:
+            return self.told[(day - self.begin) % self.size()] == share
+        border = self.border_with(share)
+        if len(self.told) + 1 - border > MOST_SHARES:
+            return False
+        self.told.append(share)
+        self.borders.append(border)
+        return True
+
+    def is_long(self, stop):
+        """Whether up to a day it is so long that no word that will do outlasts the shortest one.
+
+        On twice sixty days all of them are the shortest one, said over and over.
+        """
+        return stop is None or stop - self.begin >= 2 * MOST_SHARES
+
+    def span(self, stop):
+        """The span up to a day."""
+        return (self.begin, stop, tuple(self.told[:self.size()]))
+
+
+def spans_of_sum(courses):
+    """The spans of the sum of courses, lists of spans; TooLong where they are too many."""
+    spans = []
+    telling = Telling(0)
+    for begin, stop, rows in pieces(courses):
+        reach = sum(list(rows))
+        day = since = begin
+        while stop is None or day < stop:
+            share = sum_on(rows, day)
+            if not telling.takes(day, share):
+                spans.append(telling.span(day))
+                if len(spans) == MOST_STRETCHES:
+                    raise TooLong(None)
+                telling = Telling(day)
+                telling.takes(day, share)
+                since = day
+            day += 1
+            if day - since >= telling.size() + reach and telling.is_long(stop):
+                telling.is_sure = True
+                break
+    spans.append(telling.span(None))
+    return spans
