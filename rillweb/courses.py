@@ -2,7 +2,7 @@
 
 from rillweb.errors import NoCourse, NoDay
 from rillweb.shares import Share, times, total
-from rillweb.spans import MOST_SHARES, MOST_STRETCHES, beside, share_on, span_on, spans_of
+from rillweb.spans import MOST_SHARES, MOST_STRETCHES, beside, number_on, round_of, share_on, spans_of, word_from
 from rillweb.sums import spans_of_sum
 from rillweb.wholes import is_day, is_whole
 
@@ -55,21 +55,22 @@ def on(course, day):
     """The share of a day."""
     if not is_day(day):
         raise NoDay("a day is a whole number from 0 to 10 ** 15")
-    return share_on(span_on(course.spans, day), day)
+    return share_on(course.spans[number_on(course.spans, day)], day)
 
 
 def sum_to(course, days):
     """The sum of the shares of the first so many days."""
     if not is_day(days):
         raise NoDay("a number of days is a whole number from 0 to 10 ** 15")
-    sums = []
+    tops = {}
     for begin, stop, word in course.spans:
         if begin < days:
             past = days if stop is None else min(days, stop)
             rounds, rest = divmod(past - begin, len(word))
-            sums.append(times(Share(rounds), total(word)))
-            sums.append(total(word[:rest]))
-    return total(sums)
+            for at, share in enumerate(word):
+                told = rounds + 1 if at < rest else rounds
+                tops[share.bottom] = tops.get(share.bottom, 0) + told * share.top
+    return total([Share(top, bottom) for bottom, top in tops.items()])
 
 
 def first_unlike(one, other):
@@ -86,16 +87,7 @@ def first_unlike(one, other):
 
 def end(course):
     """A tuple (begin, round): the least round in which a course comes round, from the least day on."""
-    last = course.spans[-1]
-    size = len(last[2])
-    for span in reversed(course.spans[:-1]):
-        begin, stop, word = span
-        # So many days alike, and the whole span is.
-        first = max(begin, stop - len(word) - size)
-        for day in range(stop - 1, first - 1, -1):
-            if share_on(span, day) != share_on(last, day):
-                return (day + 1, size)
-    return (0, size)
+    return round_of(course.spans)
 
 
 def added(courses):
@@ -117,10 +109,9 @@ def later(course, days):
     if not is_day(days):
         raise NoDay("a number of days is a whole number from 0 to 10 ** 15")
     stretches = []
-    for begin, stop, word in course.spans:
+    for span in course.spans:
+        begin, stop, _ = span
         if stop is None or stop > days:
             first = max(begin, days)
-            at = (first - begin) % len(word)
-            left = None if stop is None else stop - first
-            stretches.append((left, word[at:] + word[:at]))
+            stretches.append((None if stop is None else stop - first, word_from(span, first)))
     return course_of(spans_of(stretches))

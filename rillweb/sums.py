@@ -9,14 +9,15 @@ are their reach.
 
 from rillweb.errors import TooLong
 from rillweb.shares import total
-from rillweb.spans import MOST_SHARES, MOST_STRETCHES, aligned, share_on
+from rillweb.spans import MOST_SHARES, MOST_STRETCHES, share_on, word_from
+from rillweb.tellings import Teller
 
 
 def rows_of(spans):
     """The rows {length: shares} of the words of some spans, those of nothing but 0 left out."""
     words = {}
     for span in spans:
-        words.setdefault(len(span[2]), []).append(aligned(span))
+        words.setdefault(len(span[2]), []).append(word_from(span, 0))
     rows = {}
     for size, group in words.items():
         row = [total(shares) for shares in zip(*group)]
@@ -78,75 +79,22 @@ def pieces(courses):
     yield (begin, None, rows_between(begin, None, now))
 
 
-class Telling:
-    """A stretch that is being told from a day on, as long as some word of sixty shares will do.
+class RowsAdded:
+    """Rows of which the sum is said, on any day."""
 
-    told are the shares of its first days. borders[at] is the length of the
-    longest beginning of told[:at + 1], but for all of it, that is its end, too:
-    so the shortest word that will do is known without trying each length.
-    """
+    def __init__(self, rows):
+        self.rows = rows
+        self.reach = sum(list(rows))
 
-    def __init__(self, begin):
-        self.begin = begin
-        self.told = []
-        self.borders = []
-        self.is_sure = False
-
-    def size(self):
-        """The length of the shortest word that will do till now."""
-        return len(self.told) - self.borders[-1]
-
-    def border_with(self, share):
-        """The border that told would have with one more share."""
-        if not self.told:
-            return 0
-        border = self.borders[-1]
-        while border > 0 and self.told[border] != share:
-            border = self.borders[border - 1]
-        return border + 1 if self.told[border] == share else 0
-
-    def takes(self, day, share):
-        """Whether the stretch goes on with a share on a day, which is then told."""
-        if self.is_sure:
-            return self.told[(day - self.begin) % self.size()] == share
-        border = self.border_with(share)
-        if len(self.told) + 1 - border > MOST_SHARES:
-            return False
-        self.told.append(share)
-        self.borders.append(border)
-        return True
-
-    def is_long(self, stop):
-        """Whether up to a day it is so long that no word that will do outlasts the shortest one.
-
-        On twice sixty days all of them are the shortest one, said over and over.
-        """
-        return stop is None or stop - self.begin >= 2 * MOST_SHARES
-
-    def span(self, stop):
-        """The span up to a day."""
-        return (self.begin, stop, tuple(self.told[:self.size()]))
+    def sign(self, day):
+        """The sum on a day."""
+        return sum_on(self.rows, day)
 
 
 def spans_of_sum(courses):
     """The spans of the sum of courses, lists of spans; TooLong where they are too many."""
-    spans = []
-    telling = Telling(0)
+    teller = Teller(MOST_SHARES, MOST_STRETCHES)
     for begin, stop, rows in pieces(courses):
-        reach = sum(list(rows))
-        day = since = begin
-        while stop is None or day < stop:
-            share = sum_on(rows, day)
-            if not telling.takes(day, share):
-                spans.append(telling.span(day))
-                if len(spans) == MOST_STRETCHES:
-                    raise TooLong(None)
-                telling = Telling(day)
-                telling.takes(day, share)
-                since = day
-            day += 1
-            if day - since >= telling.size() + reach and telling.is_long(stop):
-                telling.is_sure = True
-                break
-    spans.append(telling.span(None))
-    return spans
+        if not teller.take(begin, stop, RowsAdded(rows)):
+            raise TooLong(None)
+    return teller.all_spans()
