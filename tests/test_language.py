@@ -33,7 +33,14 @@ INTERFACE = {
     "courses.py": {"Course": "self stretches", "on": "course day", "sum_to": "course days",
                    "first_unlike": "one other", "end": "course", "added": "courses", "taken": "share course",
                    "later": "course days"},
+    "webs.py": {"Web": "self many beds parts", "borne": "web depths * rain", "water": "web depths * rain",
+                "step": "web depths * rain"},
+    "runs.py": {"Run": "self web depths * rains digs turned", "settled": "one other place"},
+    "chances.py": {"ties_of": "run days", "turn": "run day place", "matters": "run day place"},
 }
+METHODS_OF_RUN = {"water_of": "self place", "borne_by": "self bed", "leads": "self place", "moves": "self bed",
+                  "ties": "self place", "depth_on": "self bed day", "got_by": "self place days",
+                  "end_of": "self place", "wins": "self place", "drift": "self bed"}
 
 
 TEXTS = [(path, path.read_text(encoding="utf-8")) for path in sorted(PACKAGE.rglob("*.py"))]
@@ -165,6 +172,42 @@ class TestCode(unittest.TestCase):
                           if isinstance(part, ast.Attribute) and isinstance(part.ctx, ast.Store)}
                 self.assertFalse(stored & set(methods), node.name)
 
+    def test_no_name_is_a_method_and_an_attribute(self):
+        methods = {part.name for _, node in NODES if isinstance(node, ast.ClassDef)
+                   for part in node.body if isinstance(part, ast.FunctionDef)}
+        for place, node in NODES:
+            if isinstance(node, ast.Attribute) and isinstance(node.ctx, ast.Store):
+                self.assertNotIn(node.attr, methods, place)
+
+    def test_what_eq_runs_changes_nothing(self):
+        functions = {node.name: node for _, node in NODES if isinstance(node, ast.FunctionDef)}
+        for _, node in NODES:
+            if isinstance(node, ast.FunctionDef) and node.name == "__eq__":
+                reached, wanted = set(), [node]
+                while wanted:
+                    now = wanted.pop()
+                    reached.add(now.name)
+                    self.changes_nothing(now)
+                    for part in ast.walk(now):
+                        if called(part) in functions and called(part) not in reached:
+                            wanted.append(functions[called(part)])
+
+    def changes_nothing(self, function):
+        """A function changes by += no more than by a literal number, and but lists that it made itself."""
+        made = {node.targets[0].id for node in ast.walk(function) if isinstance(node, ast.Assign)
+                and isinstance(node.targets[0], ast.Name) and isinstance(node.value, (ast.List, ast.ListComp))}
+        for node in ast.walk(function):
+            place = (function.name, getattr(node, "lineno", 0))
+            self.assertNotIsInstance(node, (ast.Yield, ast.YieldFrom, ast.Delete, ast.Global), place)
+            if isinstance(node, ast.AugAssign):
+                self.assertIsInstance(node.target, ast.Name, place)
+                self.assertIsInstance(node.value, ast.Constant, place)
+            if isinstance(node, (ast.Attribute, ast.Subscript)):
+                self.assertIsInstance(node.ctx, ast.Load, place)
+            if isinstance(node, ast.Call) and isinstance(node.func, ast.Attribute):
+                self.assertEqual(node.func.attr, "append", place)
+                self.assertIn(node.func.value.id, made, place)
+
     def test_names(self):
         for place, node in NODES:
             names = []
@@ -273,7 +316,16 @@ class TestInterface(unittest.TestCase):
         """The names of the arguments of a function, or of a class."""
         if isinstance(node, ast.ClassDef):
             node = [part for part in node.body if isinstance(part, ast.FunctionDef) and part.name == "__init__"][0]
-        return [argument.arg for argument in node.args.args]
+        names = [argument.arg for argument in node.args.args]
+        by_name = [argument.arg for argument in node.args.kwonlyargs]
+        return names + ["*"] + by_name if by_name else names
+
+    def test_the_methods_of_a_run_stand_in_its_class(self):
+        tree = ast.parse((PACKAGE / "runs.py").read_text(encoding="utf-8"))
+        run = [node for node in tree.body if isinstance(node, ast.ClassDef) and node.name == "Run"][0]
+        methods = {node.name: self.arguments(node) for node in run.body if isinstance(node, ast.FunctionDef)}
+        for name, arguments in METHODS_OF_RUN.items():
+            self.assertEqual(methods.get(name), arguments.split(), name)
 
     def test_each_function_and_class_is_described(self):
         for path, _, tree in FILES:
