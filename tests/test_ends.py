@@ -149,7 +149,8 @@ class TestSettled(unittest.TestCase):
             self.assertEqual(settled(told, run(web, depths, always(1, 0)), 0), 0)
 
     def test_unlike_in_a_depth(self):
-        one, other = run(fork((1, 9), (-1, 5)), (FAR, 0), always(1, 2)), run(fork((1, 9), (-1, 5)), (5, 0), always(1, 2))
+        web = fork((1, 9), (-1, 5))
+        one, other = run(web, (FAR, 0), always(1, 2)), run(web, (5, 0), always(1, 2))
         self.assertEqual(settled(one, other, 0), 2 * FAR + 1)
         self.assertEqual(settled(other, one, 0), 2 * FAR + 1)
 
