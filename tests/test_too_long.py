@@ -6,7 +6,7 @@ from fractions import Fraction
 from math import lcm
 
 import plain_run
-from plain import always, course
+from plain import always, both_rounds, course
 from plain_run import Setting, Walked, greedy, web_of
 
 from rillweb.courses import added, end, on, taken
@@ -73,6 +73,30 @@ class TestRounds(Long):
             self.assertEqual(told.end_of(2), (many if (many - 1) % 63 else many - 1, 1))
         # Sixty stretches are the most.
         self.amiss(course((61 * 70, range(7)), (None, (0,))), course((61 * 70, range(9)), (None, (0,))))
+
+    def test_exactly_as_many_days_as_sixty_stretches_tell(self):
+        days = [day % 7 + day % 9 for day in range(61 * 130)]
+        # Fifty-nine stretches, and the sixtieth one is dry for ever, but for days that fit on it.
+        last = greedy(days)[59]
+        for many, is_short in ((last, True), (last + 40, False), (last + 120, False)):
+            some = [course((many, range(7)), (None, (0,))), course((many, range(9)), (None, (0,)))]
+            self.assertIs(len(greedy(days[:many] + [0] * 100)) <= 60, is_short)
+            if is_short:
+                self.assertEqual(self.told(*some).water_of(2), added(some))
+            else:
+                self.amiss(*some)
+
+    def test_words_that_are_alike_on_as_many_days_as_can_be(self):
+        # The sum is 1 on the first nineteen days, and then it goes by a round of 110 days.
+        numbers = both_rounds(10, 11)
+        mine, theirs = numbers[:10], [1 - number for number in numbers[:11]]
+        self.amiss(always(*mine), always(*theirs))
+        for many in (18, 19, 20, 40):
+            told = self.told(course((many, mine), (None, (0,))), course((many, theirs), (None, (1,))))
+            for day in range(60):
+                expected = mine[day % 10] + theirs[day % 11] if day < many else 1
+                self.assertEqual(on(told.water_of(2), day), Share(expected))
+            self.assertEqual(end(told.water_of(2))[0] == 0, many <= 19)
 
     def test_the_first_place_that_cannot_be_told(self):
         sevens, nines = always(*range(7)), always(*range(9))
@@ -221,6 +245,21 @@ class TestChoices(Long):
                               (0, rng.randint(-9, 9), rng.randint(-9, 9)))
             found.append(size > lcm(*lengths))
         self.assertTrue(5 < sum(found) < 145)
+
+    def test_exactly_as_many_days_as_sixty_stretches_tell(self):
+        # The choice comes round in 99 days, while it rains by rounds of three and eleven.
+        beds = [(0, 1, 0, 9), (1, 2, 1, 6), (1, 2, 1, 2)]
+
+        def raining(many):
+            rains = [[(many, (0,) * length + (1,)), (None, (0,))] for length in (2, 10)]
+            return Setting(3, beds, [(1,), (0, 1), ()], (0, 0, 0), [*rains, [(None, (0,))]])
+        last = greedy(Walked(raining(4000), 4000).signs(1))[59]
+        for many, is_short in ((last, True), (last + 40, False)):
+            self.assertIs(len(greedy(Walked(raining(many), many + 200).signs(1))) <= 60, is_short)
+            if is_short:
+                self.assertEqual(end(raining(many).run().water_of(1))[1], 1)
+            else:
+                self.refuse(1, raining(many).web(), (0, 0, 0), rains=raining(many).courses())
 
     def test_chance_runs(self):
         rng = random.Random(132)
