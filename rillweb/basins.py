@@ -88,6 +88,13 @@ class Basin:
             self.kept["ending of choice"] = round_of(self.course_of_choice().spans)
         return self.kept["ending of choice"]
 
+    def winner(self):
+        """A tuple (bed, day): the bed that is first from a least day on for ever, None where none is."""
+        begin, size = self.ending_of_choice()
+        if size != 1:
+            return None
+        return (self.beds[1 - self.spans[-1][2][0] % 2], begin)
+
 
 def borne_down(web, basin, place):
     """What the beds of a basin bear down to a place together, by its signs; None where none lead there."""

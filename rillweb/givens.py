@@ -1,6 +1,7 @@
 """What is handed in to a run: whether it is so as the document tells it."""
 
 from rillweb.courses import Course
+from rillweb.errors import NoDepths, NoRain
 from rillweb.tellings import retold
 from rillweb.webs import are_depths, is_bed, is_fork
 from rillweb.wholes import is_between, is_whole
@@ -18,12 +19,20 @@ def are_first_depths(web, thing):
     return are_depths(web, thing) and all([-MOST_DEEP <= depth <= MOST_DEEP for depth in thing])
 
 
+def check_first_depths(web, thing):
+    """Refuse a thing of any kind that is no depths from which a run can start."""
+    if not are_first_depths(web, thing):
+        raise NoDepths("depths are a tuple of whole numbers from -10 ** 12 to 10 ** 12, one for each bed")
+
+
 def spans_of_rains(web, thing):
-    """For each place the spans of its rain, None where a thing of any kind is no rains."""
-    if not isinstance(thing, list) or len(thing) != web.many:
-        return None
-    rains = [spans_of_rain(course) if isinstance(course, Course) else None for course in thing]
-    return None if any([rain is None for rain in rains]) else rains
+    """For each place the spans of its rain; a thing of any kind that is no rains is refused."""
+    rains = []
+    if isinstance(thing, list) and len(thing) == web.many:
+        rains = [spans_of_rain(course) if isinstance(course, Course) else None for course in thing]
+    if len(rains) != web.many or any([rain is None for rain in rains]):
+        raise NoRain("rains are a list of courses of few and short stretches, none below 0, one for each place")
+    return rains
 
 
 def spans_of_rain(course):

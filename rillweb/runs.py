@@ -2,12 +2,12 @@
 
 from rillweb.basins import basin_of
 from rillweb.courses import course_of
-from rillweb.errors import NoBed, NoDay, NoDepths, NoDigs, NoPlace, NoRain, NoTurned, TooLong
-from rillweb.givens import are_digs, are_first_depths, are_turned, spans_of_rains
+from rillweb.errors import NoBed, NoDay, NoDigs, NoPlace, NoTurned, TooLong
+from rillweb.givens import are_digs, are_turned, check_first_depths, spans_of_rains
 from rillweb.shares import Share
 from rillweb.spans import alike_from, parted, put_otherwise
 from rillweb.ties import spans_of_ties
-from rillweb.webs import beds_from, is_bed, is_fork, is_place
+from rillweb.webs import beds_from, check_place, is_bed, is_fork
 from rillweb.wholes import is_day
 
 
@@ -15,11 +15,8 @@ class Run:
     """A web whose depths on the morning of day 0, rains, digs and turned ties are known."""
 
     def __init__(self, web, depths, *, rains, digs=(), turned=()):
-        if not are_first_depths(web, depths):
-            raise NoDepths("depths are a tuple of whole numbers from -10 ** 12 to 10 ** 12, one for each bed")
+        check_first_depths(web, depths)
         spans = spans_of_rains(web, rains)
-        if spans is None:
-            raise NoRain("rains are a list of courses of few and short stretches, none below 0, one for each place")
         if not are_digs(web, digs):
             raise NoDigs("digs are a tuple of at most twenty tuples (day, bed, by)")
         if not are_turned(web, turned):
@@ -80,11 +77,7 @@ class Run:
 
     def wins(self, place):
         """A tuple (bed, day): the bed that is first from a least day on for ever, None where none is."""
-        basin = fork_at(self, place)
-        begin, size = basin.ending_of_choice()
-        if size != 1:
-            return None
-        return (basin.beds[1 - basin.spans[-1][2][0] % 2], begin)
+        return fork_at(self, place).winner()
 
     def drift(self, bed):
         """A tuple (sum, round): the sum of the moves of a bed in a round of the place at which it begins."""
@@ -108,8 +101,7 @@ def start_of(run, place):
 
 def basin_at(run, place):
     """The basin of a place; NoPlace where it is none."""
-    if not is_place(run.web, place):
-        raise NoPlace(place)
+    check_place(run.web, place)
     return run.basins[place]
 
 
@@ -133,12 +125,21 @@ def depth_of(run, basin, bed, day):
     return run.depths[bed] + basin.steps_on_first(bed, day) + dug
 
 
-def ties_of_fork(run, basin):
-    """Spans of 1 on the days on which both beds of a basin are of one depth, else of 0."""
+def gaps_along(run, basin, days):
+    """The gap of a basin's two beds on all days: spans of what it gains, and the gaps on which these begin.
+
+    Each day of a dig begins a span, and so does each of some more days.
+    """
     ahead, other = basin.beds
-    days = [day for day, bed, _ in run.digs if bed in basin.beds]
+    days = days + [day for day, bed, _ in run.digs if bed in basin.beds]
     spans = parted(put_otherwise(basin.spans, basin.signs.gains_of_sign()), days)
     gaps = [depth_of(run, basin, ahead, begin) - depth_of(run, basin, other, begin) for begin, _, _ in spans]
+    return (spans, gaps)
+
+
+def ties_of_fork(run, basin):
+    """Spans of 1 on the days on which both beds of a basin are of one depth, else of 0."""
+    spans, gaps = gaps_along(run, basin, [])
     return spans_of_ties(spans, gaps)
 
 

@@ -1,6 +1,6 @@
 """Webs: places and the beds between them; and what the waters of one day do."""
 
-from rillweb.errors import NoDepths, NoRain, NoWeb
+from rillweb.errors import NoDepths, NoPlace, NoRain, NoWeb
 from rillweb.shares import Share, less, times, total
 from rillweb.wholes import is_between, is_whole
 
@@ -114,21 +114,59 @@ def move_of(bed, share):
     return 0 if less(low, share) else -1
 
 
-def day_of(web, depths, rain):
-    """A tuple of two lists: what each place has on a day, and what each bed bears."""
-    if not are_depths(web, depths):
+def check_depths(web, thing):
+    """Refuse a thing of any kind that is no depths of a web."""
+    if not are_depths(web, thing):
         raise NoDepths("depths are a tuple of whole numbers, one for each bed")
-    if not is_rain(web, rain):
+
+
+def check_rain(web, thing):
+    """Refuse a thing of any kind that is no rain on a web."""
+    if not is_rain(web, thing):
         raise NoRain("a rain is a tuple of shares, none below 0, one for each place")
+
+
+def check_place(web, thing):
+    """Refuse a thing of any kind that is no place of a web."""
+    if not is_place(web, thing):
+        raise NoPlace(thing)
+
+
+def gaps_of(web, numbers):
+    """For each place by how much the number of its bed ahead is above that of the other one, 0 where no two begin."""
+    gaps = []
+    for place in range(web.many):
+        here = beds_from(web, place)
+        gaps.append(numbers[here[0]] - numbers[here[1]] if len(here) == 2 else 0)
+    return tuple(gaps)
+
+
+def leads_of(gaps):
+    """For each place whether the bed ahead is first, by the gaps of its depths; True where no two begin."""
+    return tuple([gap >= 0 for gap in gaps])
+
+
+def flow_of(web, leads, rain):
+    """A tuple of two lists: what each place has on a day, and what each bed bears, by which beds are first."""
     waters = []
     bears = []
     for place in range(web.many):
         amount = total([rain[place]] + [share for share, bed in zip(bears, web.beds) if bed[1] == place])
-        here = beds_from(web, place)
-        ahead_is_first = len(here) < 2 or depths[here[0]] >= depths[here[1]]
         waters.append(amount)
-        bears = bears + parts_borne(web.parts[place], amount, ahead_is_first)
+        bears = bears + parts_borne(web.parts[place], amount, leads[place])
     return (waters, bears)
+
+
+def moves_of(web, bears):
+    """The steps of the beds in the evening of a day, by what they bore."""
+    return [move_of(bed, share) for bed, share in zip(web.beds, bears)]
+
+
+def day_of(web, depths, rain):
+    """A tuple of two lists: what each place has on a day, and what each bed bears."""
+    check_depths(web, depths)
+    check_rain(web, rain)
+    return flow_of(web, leads_of(gaps_of(web, depths)), rain)
 
 
 def borne(web, depths, *, rain):
@@ -143,5 +181,5 @@ def water(web, depths, *, rain):
 
 def step(web, depths, *, rain):
     """The depths of the next morning."""
-    bears = day_of(web, depths, rain)[1]
-    return tuple([depth + move_of(bed, share) for depth, bed, share in zip(depths, web.beds, bears)])
+    moves = moves_of(web, day_of(web, depths, rain)[1])
+    return tuple([depth + move for depth, move in zip(depths, moves)])
