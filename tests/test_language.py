@@ -37,6 +37,11 @@ INTERFACE = {
                 "step": "web depths * rain"},
     "runs.py": {"Run": "self web depths * rains digs turned", "settled": "one other place"},
     "chances.py": {"ties_of": "run days", "turn": "run day place", "matters": "run day place"},
+    "back.py": {"before": "web depths * rain", "rains_between": "web depths later * place",
+                "before_any": "web depths * place"},
+    "digs.py": {"fewest": "web depths * rains bed most", "margin": "run place"},
+    "putting.py": {"cut": "web place", "joined": "one other * pipes"},
+    "alike.py": {"apart_on": "one other * pairs", "apart_within": "one depths other others * places pairs days"},
 }
 METHODS_OF_RUN = {"water_of": "self place", "borne_by": "self bed", "leads": "self place", "moves": "self bed",
                   "ties": "self place", "depth_on": "self bed day", "got_by": "self place days",
