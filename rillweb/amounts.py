@@ -68,12 +68,13 @@ def parts_by_moves(beds, factors):
 
 
 def amount_in(stretch):
-    """Some amount of a stretch."""
+    """Some amount of a stretch that tells how beds move.
+
+    Where it is without end, all beds that bear some rise, and they do so from its low on, which is in it.
+    """
     low, has_low, high, has_high = stretch
     if has_low:
         return low
-    if high is None:
-        return plus(low, Share(1))
     return high if has_high else times(Share(1, 2), plus(low, high))
 
 

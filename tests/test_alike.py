@@ -363,11 +363,12 @@ class TestApartWithin(Alike):
     def test_large_webs_against_all_amounts(self):
         rng = random.Random(1014)
         found = []
-        for _ in range(25):
+        for _ in range(60):
             one = draw_large(rng, *rng.choice(((3, 2), (4, 1))))
-            depths = tuple(rng.randint(-1, 1) for _ in one.beds)
+            depths = tuple(rng.randint(0, 1) for _ in one.beds)
             other, others = self.nearly(rng, one, depths)
-            found.append(self.check(one, depths, other, others, (0, 0), [(7, 7), (4, 4), (3, 3)], 2))
+            pairs = [(place, place) for place in range(8)]
+            found.append(self.check(one, depths, other, others, (0, 0), pairs, 2))
         self.assertIn(None, found)
         self.assertIn(2, found)
 

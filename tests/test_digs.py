@@ -336,7 +336,7 @@ class TestMargin(Digs):
                 asked += 1
                 later += abs(gaps[0]) != nearest
         self.assertGreater(asked, 1000)
-        self.assertGreater(later, 50)
+        self.assertGreater(later, 20)
 
     def test_no_places(self):
         web = web_of(4, [(0, 1, 0, 1), (0, 1, 0, 1), (1, 2, 0, 1)], [(1, 0), (1,), (), ()])
